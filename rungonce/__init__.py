@@ -1,0 +1,1 @@
+"""Rungonce: rows of bells, each of which is rung once."""

@@ -1,0 +1,126 @@
+"""What the tests share: values of all kinds, tables, rows, and checks of the errors."""
+
+import itertools
+import random
+
+from rungonce.errors import InvalidText, OnceError, TooMany
+
+
+def nested(depth):
+    value = ()
+    for _ in range(depth):
+        value = (value,)
+    return value
+
+
+HUGE = 10 ** 120 - 1
+
+# Of every kind that an argument may be, and never an integer from 0 to 719, a row, a lead or a table.
+ODD_VALUES = [
+    True, False, None, -1, -HUGE, HUGE, "", "0", "x", "(0, 1)", "a" * 4000, [], [0], [0, 1], [[0]], [(0, 1)],
+    (True,), (False, True), (0, True), ("0", "1"), (None,), (None, None), ([0, 1],), ((0, 1), [1, 0]), (HUGE,),
+    (-1, 0), (0, -1), nested(100), [nested(99)], (0,) * 1000, ((),) * 1000, OnceError(), TooMany(8), InvalidText(0),
+]
+
+ODD_INTEGERS = [True, False, None, -1, -HUGE, HUGE, "", "0", [], [0], (), (0,), OnceError()]
+
+ODD_BELLS = ODD_INTEGERS + [0, 1, 7, "3", (3,), [3]]
+
+
+def all_rows(bells):
+    return sorted(itertools.permutations(range(bells)))
+
+
+def all_changes(bells):
+    """All changes, found otherwise than the package does: from all sets of places."""
+    found = []
+    for many in range(bells):
+        for places in itertools.combinations(range(bells - 1), many):
+            if all(high - low > 1 for low, high in zip(places, places[1:])):
+                found.append(places)
+    return sorted(found)
+
+
+def ring(row, lead):
+    """The rows that a lead rings, by exchanging the bells by name."""
+    rows = []
+    for change in lead:
+        at = {place: bell for place, bell in enumerate(row)}
+        for place in change:
+            at[place], at[place + 1] = row[place + 1], row[place]
+        row = tuple(at[place] for place in range(len(row)))
+        rows.append(row)
+    return rows
+
+
+def some_lead(dice, bells, most):
+    changes = all_changes(bells)
+    return tuple(dice.choice(changes) for _ in range(dice.randint(1, most)))
+
+
+def some_table(dice, count, ways):
+    columns = []
+    for _ in range(ways):
+        column = list(range(count))
+        dice.shuffle(column)
+        columns.append(column)
+    return tuple(zip(*columns))
+
+
+def some_tables(seed, many, most_numbers, most_ways, ways=None):
+    """Tables by a fixed seed; some with a way that leads as another one, or nearly so."""
+    dice = random.Random(seed)
+    tables = []
+    for _ in range(many):
+        table = some_table(dice, dice.randint(1, most_numbers), ways or dice.randint(1, most_ways))
+        if dice.random() < 0.3 and len(table[0]) > 1:
+            table = tuple(item[:-1] + (item[0],) for item in table)
+        if dice.random() < 0.4 and len(table) > 1 and len(table[0]) > 1:
+            column = [item[0] for item in table]
+            column[0], column[1] = column[1], column[0]
+            table = tuple(item[:-1] + (end,) for item, end in zip(table, column))
+        tables.append(table)
+    return tables
+
+
+def two_way_choices(count):
+    return itertools.product((0, 1), repeat=count)
+
+
+def is_one(table, choice):
+    return len({item[way] for item, way in zip(table, choice)}) == len(table)
+
+
+def outcome(function, *arguments):
+    """What a function returns, or the class of the error that it raises."""
+    try:
+        return function(*arguments)
+    except OnceError as error:
+        return type(error)
+
+
+def check_errors(test, function, good, faults):
+    """Each argument must be refused by its error, whatever stands behind it, good or not.
+
+    The faults are, for each argument, a pair (values, error), or None where all values are good.
+    """
+    test.assertFalse(isinstance(outcome(function, *good), type), (function, good))
+    for at, fault in enumerate(faults):
+        if fault is None:
+            continue
+        values, error = fault
+        behind = [[right] + (later[0][:2] if later else []) for right, later in
+                  zip(good[at + 1:], faults[at + 1:])]
+        for value in values:
+            for rest in itertools.product(*behind):
+                arguments = tuple(good[:at]) + (value,) + rest
+                test.assertIs(outcome(function, *arguments), error, (function.__name__, arguments))
+
+
+def check_new_list(test, function, *arguments):
+    """A returned list is new, and what the caller does to it changes nothing."""
+    first = function(*arguments)
+    test.assertIsInstance(first, list)
+    kept = list(first)
+    first.append("more")
+    test.assertEqual(function(*arguments), kept)
