@@ -77,3 +77,20 @@ def joined_lots_of(count, lots):
             heads[max(first, second)] = min(first, second)
             heads[lot[0]] = heads[number] = min(first, second)
     return lots_alike([head_of(heads, number) for number in range(count)])
+
+
+def labels_of(count, lots):
+    """Return the list that tells, for each of so many numbers, the index of the lot that holds it."""
+    labels = [0] * count
+    for label, lot in enumerate(lots):
+        for number in lot:
+            labels[number] = label
+    return labels
+
+
+def first_unlike(numbers, labels):
+    """Return the pair of the first of some numbers and of the next one with another label, or None."""
+    for number in numbers:
+        if labels[number] != labels[numbers[0]]:
+            return numbers[0], number
+    return None

@@ -16,6 +16,18 @@ INTERFACE = {
                      "comes_round(bells, lead, calls, composition)", "twice_rung(bells, lead, calls, composition)"],
     "rowplaces": ["stands_at(bells, change)", "change_standing(bells, places)", "row_number(row)",
                   "row_at(bells, number)", "pairs_turned(row)"],
+    "leadtexts": ["lead_text(bells, lead)", "short_text(bells, lead)", "read_lead(bells, text)"],
+    "rowroads": ["change_between(row, other)", "least_road(row, other)"],
+    "rowrings": ["rings_of(row)", "leads_home(bells, lead)"],
+    "classes": ["classes_of(table, one, two)", "class_of(table, one, two, at)", "ends_of(table, one, two, at)",
+                "class_clash(table, one, two, choice)", "count_kept(table, one, two)",
+                "count_leadings(table, one, two)"],
+    "classpairs": ["first_parted(table, one, two, three, four)", "common_lots(table, one, two, three, four)",
+                   "joined_lots(table, one, two, three, four)", "pairs_with(table, numbers)"],
+    "pieces": ["pieces_of(table)", "piece_ends(table, at)", "beside_of(table, at)", "holding_ways(table)",
+               "count_one(table)"],
+    "twoways": ["ties_of(two)", "count_two(two, told)", "choice_at(two, index)", "index_of(two, choice)",
+                "led_on(two, told)", "told_apart(two, told)"],
 }
 
 
