@@ -85,6 +85,15 @@ class Groups(unittest.TestCase):
         for bells in range(2, 7):
             self.assertEqual(ways_to(bells, (((0,),), ((),)), tuple(range(bells))), ())
 
+    def test_some_ways_lead_from_each_row_to_rounds(self):
+        for bells, ways in many_ways():
+            table = table_of(bells, ways)
+            for start in range(len(table)):
+                reached = [start]
+                for number in reached:
+                    reached += [end for end in dict.fromkeys(table[number]) if end not in reached]
+                self.assertIn(0, reached)
+
     def test_smallest_and_greatest_groups(self):
         self.assertEqual(group_of(2, (((),),)), ((0, 1),))
         self.assertEqual(table_of(2, (((),),)), ((0,),))
