@@ -31,17 +31,22 @@ def cycle_from(steps, start):
     return tuple(cycle)
 
 
-def cycles_of(steps):
-    """Return the cycles of one to one steps, each begun with its least number, ascending."""
+def cycles_from(steps, starts):
+    """Return the cycles of one to one steps that hold some starts, each begun with its first start, in their order."""
     seen = {}
     cycles = []
-    for start in range(len(steps)):
+    for start in starts:
         if start not in seen:
             cycle = cycle_from(steps, start)
             cycles.append(cycle)
             for number in cycle:
                 seen[number] = True
     return cycles
+
+
+def cycles_of(steps):
+    """Return the cycles of one to one steps, each begun with its least number, ascending."""
+    return cycles_from(steps, list(range(len(steps))))
 
 
 def undone_steps(steps):
@@ -86,6 +91,16 @@ def labels_of(count, lots):
         for number in lot:
             labels[number] = label
     return labels
+
+
+def all_lots(count):
+    """Return the list of all ascending tuples of numbers below a count: the shorter first, then in Python's order."""
+    last = [()]
+    lots = [()]
+    while last:
+        last = [lot + (number,) for lot in last for number in range(lot[-1] + 1 if lot else 0, count)]
+        lots.extend(last)
+    return lots
 
 
 def first_unlike(numbers, labels):

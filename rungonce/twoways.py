@@ -40,6 +40,14 @@ def first_apart(ties, ways):
     return min([pair for pair in pairs if pair is not None], default=None)
 
 
+def least_with(two, told):
+    """Return the least one to one choice that has told ways, or None; nothing is checked."""
+    ties, ways = all_ties(two), {number: way for number, way in told}
+    if first_apart(ties, ways) is not None:
+        return None
+    return tied_choice(ties, [max([ways.get(number, 0) for number in tie]) for tie in ties])
+
+
 def ties_of(two):
     """Return the ascending list of the ties of a table of two ways."""
     check_two(two)
@@ -81,10 +89,7 @@ def led_on(two, told):
     """Return the least one to one choice, in Python's order, that has told ways, or None."""
     check_two(two)
     check_told(two, told)
-    ties, ways = all_ties(two), {number: way for number, way in told}
-    if first_apart(ties, ways) is not None:
-        return None
-    return tied_choice(ties, [max([ways.get(number, 0) for number in tie]) for tie in ties])
+    return least_with(two, told)
 
 
 def told_apart(two, told):

@@ -26,6 +26,29 @@ ODD_INTEGERS = [True, False, None, -1, -HUGE, HUGE, "", "0", [], [0], (), (0,), 
 
 ODD_BELLS = ODD_INTEGERS + [0, 1, 7, "3", (3,), [3]]
 
+BAD_TABLES = ODD_VALUES + [(), 0, ((),), ((0, 0), (0, 1)), ((0,), (1, 1)), [(0,)], [(0, 0)], ([0],), ([0, 0],),
+                           ((0, False),), ((0,) * 7,)]
+NOT_TWO = [((0,),), ((0, 0, 0),), tuple((at,) * 6 for at in range(720)), ((1,), (0,))]
+
+# For a table of six numbers and two ways.
+BAD_CHOICES = ODD_VALUES + [(), 0, (0,) * 5, [0] * 6, (0,) * 7, (0, 0, 0, 0, 0, 2), (True,) * 6, (0, 0, 0, 0, 0, None)]
+BAD_TOLD = ODD_VALUES + [0, (0, 1), [(0, 1)], ([0, 1],), ((0,),), ((0, 1, 0),), ((0, 2),), ((6, 0),), ((-1, 0),),
+                         ((0, -1),), ((0, 1), (0, 1)), ((1, 0), (0, 0)), ((0, True),), ((False, 0),), ((0, None),),
+                         ("01",), (((0,), 1),), ((0, 1), None), ((0, HUGE),), ((HUGE, 0),), ((0, 1),) * 1000, "01"]
+
+BAD_SHEETS = ODD_VALUES + [
+    0, ((),), (((0, 0), (0, 1)), ()), [((0, 0), (0, 1))], ([(0, 0), (0, 1)],), (([0, 0], [0, 1]),), ((0, 0), (0, 1)),
+    (((0, 0),),), (((0, 0), (0, 2)),), (((0, 1), (0, 2)),), (((1, 0), (1, 1)),), (((0, 0), (0, 1), (2, 0), (2, 1)),),
+    (((0, 1), (0, 0)),), (((0, 1),), ((0, 0),)), (((0, 0), (0, 1), (1, 0)),), (((0, 0), (0, 0)),),
+    (((0, 0), (0, 1)), ((0, 0), (0, 1))), (((0, 0), (0, 1)), ((0, 1), (0, 2))), (((0, 0), (0, 1), (0, 0)),),
+    (((0, 0), (1, 1)), ((1, 0), (0, 1))), (((1, 0), (1, 1)), ((0, 0), (0, 1))), (((False, 0), (0, 1)),),
+    (((0, 0), (0, True)),), (((0, 0, 0), (0, 1, 0)),), (((0,), (1,)),), (("00", "01"),), ((None, (0, 1)),),
+    (((0, 0), (0, 1)), None), (((0, 0), (0, "1")),), (((0, 0), (0, None)),), (((0, 0), (HUGE, 0)),),
+    (((0, -1), (0, 0)),), (((-1, 0), (-1, 1)),), (((-1, 0), (-1, 1), (0, 0), (0, 1)),), ((((0, 0), (0, 1)),),),
+    (tuple((0, index) for index in range(7)),), (tuple((label, index) for label in range(11) for index in range(2)),),
+    (tuple((0, index) for index in range(1000)),), "(((0, 0), (0, 1)),)",
+]
+
 
 def all_rows(bells):
     return sorted(itertools.permutations(range(bells)))
@@ -87,8 +110,85 @@ def two_way_choices(count):
     return itertools.product((0, 1), repeat=count)
 
 
+def all_choices(table):
+    return itertools.product(range(len(table[0])), repeat=len(table))
+
+
+def all_told(count, many):
+    """Told ways of all kinds for so many numbers and ways."""
+    for ways in itertools.product(tuple(range(many)) + (None,), repeat=count):
+        yield tuple((number, way) for number, way in enumerate(ways) if way is not None)
+
+
+def ones_of(table):
+    return [choice for choice in all_choices(table) if is_one(table, choice)]
+
+
+def having(choices, told):
+    return [choice for choice in choices if all(choice[number] == way for number, way in told)]
+
+
+def all_lots_by_length(count):
+    return [lot for many in range(count + 1) for lot in itertools.combinations(range(count), many)]
+
+
 def is_one(table, choice):
     return len({item[way] for item, way in zip(table, choice)}) == len(table)
+
+
+def by_hand(sheet):
+    """What each stand of a sheet is followed by."""
+    return {block[at]: block[(at + 1) % len(block)] for block in sheet for at in range(len(block))}
+
+
+def written(followers):
+    """The sheet in which stands are followed so."""
+    left, blocks = sorted(followers), []
+    while left:
+        block = [left[0]]
+        while followers[block[-1]] != block[0]:
+            block.append(followers[block[-1]])
+        left = [stand for stand in left if stand not in block]
+        blocks.append(tuple(block))
+    return tuple(blocks)
+
+
+def size_in(sheet, label):
+    return len([stand for block in sheet for stand in block if stand[0] == label])
+
+
+def count_classes(sheet):
+    return len({stand[0] for block in sheet for stand in block})
+
+
+def turn(sheet, lot):
+    """The sheet behind turning a lot, word by word."""
+    old = by_hand(sheet)
+    behind = dict(old)
+    for label in lot:
+        size = size_in(sheet, label)
+        for index in range(size):
+            behind[(label, index)] = old[(label, index - 1 if index > 0 else size - 1)]
+    return written(behind)
+
+
+def some_sheet(dice, sizes, blocks=None):
+    """A sheet with classes of these sizes, by a throw of dice, with one block or with any number of them."""
+    stands = [(label, index) for label, size in enumerate(sizes) for index in range(size)]
+    order = list(stands)
+    dice.shuffle(order)
+    if blocks == 1:
+        return written(dict(zip(order, order[1:] + order[:1])))
+    return written(dict(zip(stands, order)))
+
+
+def some_sheets(seed, many, most_classes, most_stands=6, blocks=None):
+    dice = random.Random(seed)
+    sheets = []
+    for _ in range(many):
+        count = dice.randint(0 if blocks is None else 1, most_classes)
+        sheets.append(some_sheet(dice, [dice.randint(2, most_stands) for _ in range(count)], blocks))
+    return sheets
 
 
 def outcome(function, *arguments):
@@ -97,6 +197,13 @@ def outcome(function, *arguments):
         return function(*arguments)
     except OnceError as error:
         return type(error)
+
+
+def check_limit(test, limit, function, *arguments):
+    """TooMany must be raised with this limit."""
+    with test.assertRaises(TooMany) as caught:
+        function(*arguments)
+    test.assertEqual(caught.exception.limit, limit)
 
 
 def check_errors(test, function, good, faults):

@@ -7,11 +7,10 @@ from rungonce.choices import two_that_meet
 from rungonce.classes import class_clash, class_of, classes_of, count_kept, count_leadings, ends_of
 from rungonce.errors import InvalidChoice, InvalidNumber, InvalidTable, InvalidWay
 from rungonce.groups import table_of
-from samples import ODD_INTEGERS, ODD_VALUES, check_errors, check_new_list, outcome, some_tables
+from samples import BAD_TABLES, ODD_INTEGERS, ODD_VALUES, check_errors, check_new_list, outcome, some_tables
 
 T = table_of(3, (((0,),), ((1,),)))
 U = ((1, 1, 0), (0, 0, 2), (2, 3, 1), (3, 2, 3))
-BAD_TABLES = ODD_VALUES + [(), 0, ((),), ((0, 0), (0, 1)), ((0,), (1, 1)), [(0,)], ([0],), ((0, False),), ((0,) * 7,)]
 
 
 def follower(table, one, two, number):

@@ -7,10 +7,9 @@ from rungonce.classes import class_of, classes_of
 from rungonce.classpairs import common_lots, first_parted, joined_lots, pairs_with
 from rungonce.errors import InvalidNumbers, InvalidTable, InvalidWay
 from rungonce.groups import table_of
-from samples import HUGE, ODD_INTEGERS, ODD_VALUES, check_errors, check_new_list, some_tables
+from samples import BAD_TABLES, HUGE, ODD_INTEGERS, ODD_VALUES, check_errors, check_new_list, some_tables
 
 U = ((1, 1, 0), (0, 0, 2), (2, 3, 1), (3, 2, 3))
-BAD_TABLES = ODD_VALUES + [(), 0, ((),), ((0, 0), (0, 1)), ((0,), (1, 1)), [(0,)], ([0],), ((0, False),), ((0,) * 7,)]
 
 
 def lots_of(count, are_together):

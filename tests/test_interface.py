@@ -28,6 +28,18 @@ INTERFACE = {
                "count_one(table)"],
     "twoways": ["ties_of(two)", "count_two(two, told)", "choice_at(two, index)", "index_of(two, choice)",
                 "led_on(two, told)", "told_apart(two, told)"],
+    "parities": ["parity_of(two, choice)", "only_parity(two, told)", "choice_with_parity(two, told, parity)"],
+    "manyways": ["choice_with(table, told)", "lot_with_few(table, told)", "is_lot_with_few(table, told, value)",
+                 "count_choices(table, told)"],
+    "between": ["rings_between(table, choice, beside)", "turned_ring(table, choice, beside, index)",
+                "are_between(table, choice, beside, value)"],
+    "leadings": ["choice_for(table, leading)", "first_without(table, leading)", "count_for(table, leading)"],
+    "sheets": ["is_sheet(value)", "turned_sheet(sheet, lot)", "turned_back(sheet, lot)", "sheet_of(table, one, two)"],
+    "blockcounts": ["block_counts(sheet)"],
+    "standing": ["stand_together(sheet, lot, stand, mate)", "together_lot(sheet, stand, mate)",
+                 "apart_lot(sheet, stand, mate)"],
+    "across": ["across_table(sheet)", "even_lot(sheet, lot)", "is_even_lot(sheet, lot, value)",
+               "undone_table(sheet, lot)", "unlike_lot(sheet, other)"],
 }
 
 

@@ -6,11 +6,10 @@ import unittest
 from rungonce.errors import InvalidNumber, InvalidTable, TooMany
 from rungonce.groups import table_of
 from rungonce.pieces import beside_of, count_one, holding_ways, piece_ends, pieces_of
-from samples import ODD_INTEGERS, ODD_VALUES, check_errors, check_new_list, is_one, outcome, some_tables
+from samples import BAD_TABLES, ODD_INTEGERS, ODD_VALUES, check_errors, check_new_list, is_one, outcome, some_tables
 
 T = table_of(3, (((0,),), ((1,),)))
 U = ((1, 1, 0), (0, 0, 2), (2, 3, 1), (3, 2, 3))
-BAD_TABLES = ODD_VALUES + [(), 0, ((),), ((0, 0), (0, 1)), ((0,), (1, 1)), [(0,)], ([0],), ((0, False),), ((0,) * 7,)]
 
 
 def pieces_by_hand(table):

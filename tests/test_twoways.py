@@ -7,26 +7,10 @@ from rungonce.choices import blocks_of
 from rungonce.errors import InvalidChoice, InvalidIndex, InvalidTable, InvalidTold, NotOne, NotTwo
 from rungonce.groups import table_of
 from rungonce.twoways import choice_at, count_two, index_of, led_on, ties_of, told_apart
-from samples import (HUGE, ODD_INTEGERS, ODD_VALUES, check_errors, check_new_list, is_one, outcome, some_tables,
-                     two_way_choices)
+from samples import (BAD_TABLES, BAD_TOLD, NOT_TWO, ODD_INTEGERS, ODD_VALUES, all_told, check_errors, check_new_list,
+                     having, ones_of, outcome, some_tables, two_way_choices)
 
 T = table_of(3, (((0,),), ((1,),)))
-BAD_TABLES = ODD_VALUES + [(), 0, ((),), ((0, 0), (0, 1)), ((0,), (1, 1)), [(0, 0)], ([0, 0],), ((0, False),),
-                           ((0,) * 7,)]
-NOT_TWO = [((0,),), ((0, 0, 0),), tuple((at,) * 6 for at in range(720)), ((1,), (0,))]
-BAD_TOLD = ODD_VALUES + [0, (0, 1), [(0, 1)], ([0, 1],), ((0,),), ((0, 1, 0),), ((0, 2),), ((6, 0),), ((-1, 0),),
-                         ((0, -1),), ((0, 1), (0, 1)), ((1, 0), (0, 0)), ((0, True),), ((False, 0),), ((0, None),),
-                         ("01",), (((0,), 1),), ((0, 1), None), ((0, HUGE),), ((HUGE, 0),), ((0, 1),) * 1000, "01"]
-
-
-def ones_of(table):
-    return [choice for choice in two_way_choices(len(table)) if is_one(table, choice)]
-
-
-def all_told(count):
-    """Told ways of all kinds for so many numbers."""
-    for ways in itertools.product((0, 1, None), repeat=count):
-        yield tuple((number, way) for number, way in enumerate(ways) if way is not None)
 
 
 class TwoWays(unittest.TestCase):
@@ -66,14 +50,14 @@ class TwoWays(unittest.TestCase):
     def test_told_ways(self):
         for table in some_tables(51, 30, 5, 2, 2):
             ones, ties = ones_of(table), ties_of(table)
-            for told in all_told(len(table)):
-                having = [choice for choice in ones if all(choice[number] == way for number, way in told)]
-                self.assertEqual(count_two(table, told), len(having))
-                self.assertEqual(led_on(table, told), min(having, default=None))
+            for told in all_told(len(table), 2):
+                found = having(ones, told)
+                self.assertEqual(count_two(table, told), len(found))
+                self.assertEqual(led_on(table, told), min(found, default=None))
                 apart = [(g, h) for (g, way), (h, other) in itertools.combinations(told, 2) if way != other
                          and any(g in tie and h in tie for tie in ties)]
                 self.assertEqual(told_apart(table, told), min(apart, default=None))
-                self.assertEqual(bool(apart), not having)
+                self.assertEqual(bool(apart), not found)
 
     def test_first_pair_that_is_told_apart(self):
         table = tuple(((at + 2) % 6, at) for at in range(6))
