@@ -36,6 +36,11 @@ BAD_TOLD = ODD_VALUES + [0, (0, 1), [(0, 1)], ([0, 1],), ((0,),), ((0, 1, 0),), 
                          ((0, -1),), ((0, 1), (0, 1)), ((1, 0), (0, 0)), ((0, True),), ((False, 0),), ((0, None),),
                          ("01",), (((0,), 1),), ((0, 1), None), ((0, HUGE),), ((HUGE, 0),), ((0, 1),) * 1000, "01"]
 
+# No lots of whatever there is; then none of three classes.
+NO_LOTS = ODD_VALUES + [0, (0, 720), (1, 0), (0, 0), [0], ([0],), ("0",), (2, 1, 0), ((0,), (1,)), (0, None), "01",
+                        (0, HUGE), (0, True), (0, 1, 1)]
+BAD_LOTS = NO_LOTS + [(3,), (0, 3), (0, 1, 2, 3)]
+
 BAD_SHEETS = ODD_VALUES + [
     0, ((),), (((0, 0), (0, 1)), ()), [((0, 0), (0, 1))], ([(0, 0), (0, 1)],), (([0, 0], [0, 1]),), ((0, 0), (0, 1)),
     (((0, 0),),), (((0, 0), (0, 2)),), (((0, 1), (0, 2)),), (((1, 0), (1, 1)),), (((0, 0), (0, 1), (2, 0), (2, 1)),),
@@ -106,6 +111,42 @@ def some_tables(seed, many, most_numbers, most_ways, ways=None):
     return tables
 
 
+def turning_table(dice, sizes):
+    """A table of two ways, the first one by a throw of dice, with classes of these sizes."""
+    count = sum(sizes)
+    first, order = list(range(count)), list(range(count))
+    dice.shuffle(first)
+    dice.shuffle(order)
+    second, at = list(first), 0
+    for size in sizes:
+        numbers = order[at:at + size]
+        for number, other in zip(numbers, numbers[1:] + numbers[:1]):
+            second[other] = first[number]
+        at += size
+    return tuple(zip(first, second))
+
+
+def paired_tables(seed, many, most_pairs, most_alone):
+    """Paired tables; some of them are not whole."""
+    dice = random.Random(seed)
+    tables = []
+    for _ in range(many):
+        pairs, alone = dice.randint(0, most_pairs), dice.randint(0, most_alone)
+        tables.append(turning_table(dice, [2] * pairs + [1] * (alone if pairs + alone else 1)))
+    return tables
+
+
+def turned_by_hand(table, numbers):
+    """How many blocks there are when just these numbers go by the way 1."""
+    left, count = set(range(len(table))), 0
+    while left:
+        number, count = min(left), count + 1
+        while number in left:
+            left.remove(number)
+            number = table[number][1 if number in numbers else 0]
+    return count
+
+
 def two_way_choices(count):
     return itertools.product((0, 1), repeat=count)
 
@@ -142,13 +183,13 @@ def by_hand(sheet):
 
 
 def written(followers):
-    """The sheet in which stands are followed so."""
+    """The blocks, or rings, or classes, in which stands, or numbers, are followed so."""
     left, blocks = sorted(followers), []
     while left:
         block = [left[0]]
         while followers[block[-1]] != block[0]:
             block.append(followers[block[-1]])
-        left = [stand for stand in left if stand not in block]
+        left = [item for item in left if item not in block]
         blocks.append(tuple(block))
     return tuple(blocks)
 

@@ -6,10 +6,9 @@ import unittest
 
 from rungonce.across import across_table, even_lot, is_even_lot, undone_table, unlike_lot
 from rungonce.errors import InvalidLot, InvalidSheet
-from samples import BAD_SHEETS, ODD_VALUES, all_lots_by_length, check_errors, outcome, some_sheet, turn
+from samples import BAD_LOTS, BAD_SHEETS, ODD_VALUES, all_lots_by_length, check_errors, outcome, some_sheet, turn
 
 P = (((0, 0), (1, 0), (2, 0), (0, 1), (1, 1), (2, 1)),)
-BAD_LOTS = ODD_VALUES + [0, (3,), (0, 3), (1, 0), (0, 0), [0], ([0],), ("0",), (0, 1, 2, 3), ((0,), (1,)), "01"]
 BAD_PAIR_SHEETS = BAD_SHEETS + [
     (), (((0, 0), (0, 1), (0, 2)),), (((0, 0), (0, 1)), ((1, 0), (1, 1))), (((0, 0),), ((0, 1),)),
     (((0, 0), (1, 0), (0, 1), (1, 1), (0, 2)),), (((0, 0), (1, 0), (0, 1), (1, 1), (1, 2)),),

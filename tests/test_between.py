@@ -7,7 +7,7 @@ from rungonce.between import are_between, rings_between, turned_ring
 from rungonce.errors import InvalidChoice, InvalidIndex, InvalidTable, NotOne
 from rungonce.groups import table_of
 from samples import (BAD_CHOICES, BAD_TABLES, ODD_INTEGERS, ODD_VALUES, all_choices, check_errors, check_new_list,
-                     is_one, ones_of, outcome, some_tables)
+                     is_one, ones_of, outcome, some_tables, written)
 
 T = table_of(3, (((0,),), ((1,),)))
 FIRST, SECOND = (0,) * 6, (1,) * 6
@@ -15,19 +15,9 @@ NOT_ONE = [(0, 0, 0, 0, 0, 1), (1, 0, 0, 0, 0, 0)]
 
 
 def rings_by_hand(table, choice, beside):
-    left = [number for number in range(len(table)) if choice[number] != beside[number]]
-    rings = []
-    while left:
-        ring = [left[0]]
-        while True:
-            end = table[ring[-1]][choice[ring[-1]]]
-            follower = [other for other in range(len(table)) if table[other][beside[other]] == end][0]
-            if follower == ring[0]:
-                break
-            ring.append(follower)
-        left = [number for number in left if number not in ring]
-        rings.append(tuple(ring))
-    return rings
+    unlike = [number for number in range(len(table)) if choice[number] != beside[number]]
+    return list(written({number: other for number in unlike for other in unlike
+                         if table[number][choice[number]] == table[other][beside[other]]}))
 
 
 class Between(unittest.TestCase):

@@ -40,6 +40,16 @@ INTERFACE = {
                  "apart_lot(sheet, stand, mate)"],
     "across": ["across_table(sheet)", "even_lot(sheet, lot)", "is_even_lot(sheet, lot, value)",
                "undone_table(sheet, lot)", "unlike_lot(sheet, other)"],
+    "sheetpairs": ["sheet_pairs(sheet)"],
+    "turnlots": ["turn_classes(table)", "lot_choice(table, lot)", "lot_blocks(table, lot)", "is_whole_table(table)",
+                 "is_paired(table)"],
+    "oneblocks": ["turned_numbers(table)", "fewest_turned(table)", "is_tree_lot(table, lot)"],
+    "crossings": ["crossing_pairs(table, lot)", "even_turning(table, lot, other)", "turning_road(table, lot, other)"],
+    "lotsearch": ["one_block_lots(table)", "lots_by_blocks(table)", "least_lot(table)"],
+    "lots": ["is_lot(table, value)", "does_serve(table, lot, choice)", "blocks_of_lot(table, lot, choice)"],
+    "stretches": ["stretches_of(table, lot, one, other)", "odd_stretch(table, lot, one, other)",
+                  "whole_rings(table, lot, one, other)", "forced_ways(table, lot, one, other)",
+                  "is_rest_served(table, lot, one, other)", "unlike_stretches(table, lot, one, other)"],
 }
 
 

@@ -8,13 +8,12 @@ from rungonce.classes import classes_of
 from rungonce.errors import InvalidLot, InvalidSheet, InvalidTable, InvalidWays
 from rungonce.groups import table_of
 from rungonce.sheets import is_sheet, sheet_of, turned_back, turned_sheet
-from samples import (BAD_SHEETS, BAD_TABLES, ODD_INTEGERS, ODD_VALUES, all_lots_by_length, check_errors, check_limit,
+from samples import (BAD_LOTS, BAD_SHEETS, BAD_TABLES, ODD_INTEGERS, all_lots_by_length, check_errors, check_limit,
                      count_classes, outcome, size_in, some_sheet, some_sheets, some_tables, turn, written)
 
 T = table_of(3, (((0,),), ((1,),)))
 S = (((0, 0), (1, 0), (2, 0)), ((0, 1), (1, 1), (2, 1)))
 GREATEST = (tuple((label, index) for label in range(10) for index in range(6)),)
-BAD_LOTS = ODD_VALUES + [0, (3,), (0, 3), (1, 0), (0, 0), [0], ([0],), ("0",), (0, 1, 2, 3), ((0,), (1,)), "01"]
 
 
 def table_with_classes(sizes, count):

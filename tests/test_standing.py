@@ -5,11 +5,10 @@ import unittest
 
 from rungonce.errors import InvalidLot, InvalidSheet, InvalidStand
 from rungonce.standing import apart_lot, stand_together, together_lot
-from samples import (BAD_SHEETS, HUGE, ODD_VALUES, all_lots_by_length, check_errors, count_classes, outcome,
-                     some_sheets, turn)
+from samples import (BAD_LOTS, BAD_SHEETS, HUGE, ODD_VALUES, all_lots_by_length, check_errors, count_classes,
+                     outcome, some_sheets, turn)
 
 S = (((0, 0), (1, 0), (2, 0)), ((0, 1), (1, 1), (2, 1)))
-BAD_LOTS = ODD_VALUES + [0, (3,), (0, 3), (1, 0), (0, 0), [0], ([0],), ("0",), (0, 1, 2, 3), ((0,), (1,)), "01"]
 BAD_STANDS = ODD_VALUES + [0, (), (0,), (0, 0, 0), (0, 2), (3, 0), (0, -1), (-1, 0), [0, 0], (0, False), (True, 0),
                            (0, None), ("0", 0), (0, HUGE), (HUGE, 0), ((0, 0),), ((0, 0), (0, 1)), "00"]
 
