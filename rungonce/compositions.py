@@ -9,12 +9,22 @@ MOST_CALLS = 5
 MOST_LEADS = 40
 
 
+def could_call(bells, value):
+    """Tell whether any value is the calls of a method of so many bells, which are not checked."""
+    if not isinstance(value, tuple) or len(value) > MOST_CALLS:
+        return False
+    return all([could_change(bells, call) for call in value])
+
+
+def could_compose(calls, value):
+    """Tell whether any value is a composition of a method with such calls, which are not checked."""
+    return are_indices(value, len(calls) + 1) and len(value) <= MOST_LEADS
+
+
 def check_calls(bells, calls):
     """Raise InvalidCalls if these are not the calls of a method of so many bells."""
-    if not isinstance(calls, tuple) or len(calls) > MOST_CALLS:
-        raise InvalidCalls("calls must be a tuple of at most 5 changes")
-    if not all([could_change(bells, call) for call in calls]):
-        raise InvalidCalls("a call is not a change of so many bells")
+    if not could_call(bells, calls):
+        raise InvalidCalls("calls must be a tuple of at most 5 changes of so many bells")
 
 
 def check_method(bells, lead, calls):
@@ -26,7 +36,7 @@ def check_method(bells, lead, calls):
 
 def check_composition(calls, composition):
     """Raise InvalidComposition if this is not a composition of a method with such calls."""
-    if not are_indices(composition, len(calls) + 1) or len(composition) > MOST_LEADS:
+    if not could_compose(calls, composition):
         raise InvalidComposition("this is not a composition of the method")
 
 
@@ -46,6 +56,25 @@ def rows_composed(bells, lead, calls, composition):
     return rows
 
 
+def are_round(bells, rows):
+    """Tell whether some row is rung, and the last one is rounds."""
+    return len(rows) > 0 and rows[-1] == rounds_of(bells)
+
+
+def first_twice(bells, rows):
+    """Return the pair of the first place of a row that came already, and of the place where it came, or None.
+
+    Rounds stand ahead of all, at the place -1; they may come again as the last row.
+    """
+    places = {rounds_of(bells): -1}
+    for place, row in enumerate(rows):
+        if row not in places:
+            places[row] = place
+        elif places[row] != -1 or place != len(rows) - 1:
+            return place, places[row]
+    return None
+
+
 def ways_by(bells, lead, calls):
     """Return the tuple of the ways of a method."""
     check_method(bells, lead, calls)
@@ -63,22 +92,14 @@ def comes_round(bells, lead, calls, composition):
     """Tell whether a composition comes round."""
     check_method(bells, lead, calls)
     check_composition(calls, composition)
-    rows = rows_composed(bells, lead, calls, composition)
-    return len(rows) > 0 and rows[-1] == rounds_of(bells)
+    return are_round(bells, rows_composed(bells, lead, calls, composition))
 
 
 def twice_rung(bells, lead, calls, composition):
     """Return the pair of the first place of a row that came already, and of the place where it came, or None.
 
-    Rounds stand ahead of all, at the place -1; they may come again as the last row.
+    The place of rounds ahead of all is -1.
     """
     check_method(bells, lead, calls)
     check_composition(calls, composition)
-    rows = rows_composed(bells, lead, calls, composition)
-    places = {rounds_of(bells): -1}
-    for place, row in enumerate(rows):
-        if row not in places:
-            places[row] = place
-        elif places[row] != -1 or place != len(rows) - 1:
-            return place, places[row]
-    return None
+    return first_twice(bells, rows_composed(bells, lead, calls, composition))

@@ -19,6 +19,12 @@ def check_lead(bells, lead):
         raise InvalidLead("this is not a lead of so many bells")
 
 
+def check_bells_and_lead(bells, lead):
+    """Raise the first error that applies to the bells and to a lead of so many."""
+    check_bells(bells)
+    check_lead(bells, lead)
+
+
 def rows_behind(row, lead):
     """Return the list of the rows that a lead rings from a row; neither is checked."""
     rows = []
@@ -50,6 +56,5 @@ def led_to(row, lead):
 
 def acting_row(bells, lead):
     """Return the row by which a lead acts: that to which it leads rounds."""
-    check_bells(bells)
-    check_lead(bells, lead)
+    check_bells_and_lead(bells, lead)
     return rows_behind(rounds_of(bells), lead)[-1]

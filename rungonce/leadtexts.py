@@ -1,7 +1,7 @@
 """Leads as texts, whole or by half."""
 
 from rungonce.errors import InvalidText
-from rungonce.leads import MOST_CHANGES, check_lead
+from rungonce.leads import MOST_CHANGES, check_bells_and_lead
 from rungonce.rowplaces import standing_places
 from rungonce.rows import all_changes, check_bells
 
@@ -81,15 +81,13 @@ def read_changes(words, text):
 
 def lead_text(bells, lead):
     """Return the text of a lead."""
-    check_bells(bells)
-    check_lead(bells, lead)
+    check_bells_and_lead(bells, lead)
     return changes_text(bells, lead)
 
 
 def short_text(bells, lead):
     """Return the short text of a lead, or None if it is not mirrored."""
-    check_bells(bells)
-    check_lead(bells, lead)
+    check_bells_and_lead(bells, lead)
     if not is_mirrored(lead):
         return None
     return changes_text(bells, lead[:len(lead) // 2]) + "," + change_text(bells, lead[-1])

@@ -1,6 +1,6 @@
 """Roads of changes from one row to another one."""
 
-from rungonce.rows import all_changes, changed_row, check_any_row, check_row, least_roads, rounds_of
+from rungonce.rows import MOST_ROWS, all_changes, changed_row, check_any_row, check_row, least_roads, rounds_of
 
 
 def change_between(row, other):
@@ -19,5 +19,5 @@ def least_road(row, other):
     changes = all_changes(len(row))
     # A change leads each row to this row followed by the one to which the change leads rounds.
     steps = [changed_row(rounds_of(len(row)), change) for change in changes]
-    roads = least_roads(row, steps, other)
+    roads = least_roads(row, steps, other, MOST_ROWS)
     return tuple([changes[index] for index in roads[other]])

@@ -3,10 +3,17 @@
 from rungonce.basics import are_indices, is_integer, undone_steps
 from rungonce.errors import InvalidBells, InvalidChange, InvalidRow
 
+MOST_ROWS = 720
+
+
+def could_be_bells(value):
+    """Tell whether any value is a number of bells: an integer from 2 to 6."""
+    return is_integer(value) and 2 <= value <= 6
+
 
 def check_bells(bells):
     """Raise InvalidBells if bells are not an integer from 2 to 6."""
-    if not (is_integer(bells) and 2 <= bells <= 6):
+    if not could_be_bells(bells):
         raise InvalidBells("bells must be an integer from 2 to 6")
 
 
@@ -61,16 +68,16 @@ def joint_row(row, other):
     return tuple([row[place] for place in other])
 
 
-def least_roads(start, steps, goal):
+def least_roads(start, steps, goal, most):
     """Return a dict with the least tuples of indices of steps that lead from a start, by the rows they lead to.
 
     A step leads a row to this row followed by the step. The least tuple is the shortest, then the first
     in Python's order. The dict has all rows that can be come to or, if the goal is one of them, at least
-    all that are no farther than the goal is.
+    all that are no farther than the goal is, or else more rows than so many.
     """
     roads = {start: ()}
     last = [start]
-    while last and goal not in roads:
+    while last and goal not in roads and len(roads) <= most:
         further = []
         for row in last:
             for index, step in enumerate(steps):

@@ -70,6 +70,11 @@ def way_forced(table, stretch, one, other):
     return one if table[stretch[0][1]][one] == stretch[1][1] else other
 
 
+def ways_forced(table, stretches, one, other):
+    """Return the dict with the ways by which the numbers of even stretches go; nothing is checked."""
+    return {side[1]: way_forced(table, stretch, one, other) for stretch in stretches for side in stretch[::2]}
+
+
 def stretches_of(table, lot, one, other):
     """Return the ascending list of all stretches of a lot."""
     check_lot_and_pair(table, lot, one, other)
@@ -95,10 +100,7 @@ def forced_ways(table, lot, one, other):
     stretches = all_stretches(table, lot, one, other)
     if first_odd(stretches) is not None:
         return None
-    ways = {}
-    for stretch in stretches:
-        for side in stretch[::2]:
-            ways[side[1]] = way_forced(table, stretch, one, other)
+    ways = ways_forced(table, stretches, one, other)
     return tuple([ways.get(number) for number in lot])
 
 

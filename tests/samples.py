@@ -41,6 +41,37 @@ NO_LOTS = ODD_VALUES + [0, (0, 720), (1, 0), (0, 0), [0], ([0],), ("0",), (2, 1,
                         (0, HUGE), (0, True), (0, 1, 1)]
 BAD_LOTS = NO_LOTS + [(3,), (0, 3), (0, 1, 2, 3)]
 
+# For a table of six numbers.
+BAD_NUMBER_LOTS = NO_LOTS + [(6,), (0, 6), (0, 1, 2, 3, 4, 5, 6)]
+
+# For four bells; among the odd values there is ((),) * 1000, a lead in all but its length.
+BAD_LEADS = ODD_VALUES + [(), 0, ((),) * 25, ((0,), (3,)), ((0, 1),), [(0,)], ((0,), [1]), ((0,), None), ((True,),),
+                          ((0,), (False,)), (0,), ((0,), 1), (((0,),),), "x", ("0",), ((-1,),), ((2, 0),)]
+BAD_WAYS = ODD_VALUES + [(), 0, (((0,),),) * 7, [((0,),)], (((0,),), ()), (((3,),),), (((),), ((0, 1),)), ((0,),),
+                         ([(0,)],), (((0,),), None), (((True,),),), ((((0,),),),), (((),) * 25,)]
+# For two ways of four bells.
+BAD_COURSES = ODD_VALUES + [0, (2,), (0, 2), (0,) * 801, [0, 1], (0, -1), (0, False), (0, None), "01", ((0,),),
+                            (0, HUGE)]
+BAD_INDICES = ODD_INTEGERS + [2, 6, (1,), "1"]
+# Other bells' rows, and what is none.
+BAD_RENAMINGS = ODD_VALUES + [(), 0, (0, 1, 2), (0, 1, 2, 3, 4), [0, 1, 2, 3], (0, 1, 2, 2), (0, True, 2, 3), "0123",
+                              (1, 2, 3, 4), (0, 1, 2, None), (0, 1, 2, (3,)), (-1, 0, 1, 2)]
+BAD_BELL = ODD_INTEGERS + [4, 6, (1,), "1"]
+BAD_MANY = ODD_INTEGERS + [0, 25, "1", (1,)]
+# For two calls; no calls at all are fine.
+BAD_CALLS = ODD_VALUES + [0, ((),) * 6, [()], ((0,), [1]), (0,), ((3,),), ((False,),), ((0, 1),), ("0",), (((0,),),)]
+BAD_COMPOSITIONS = ODD_VALUES + [0, (0,) * 41, (3,), (0, -1), [0, 1], (0, False), "01", ((0,),)]
+
+BAD_TOURS = ODD_VALUES + [
+    (), 0, (4, ((0,),), ()), (4, ((0,),), (), (), ()), [4, ((0,),), (), ()], (1, ((0,),), (), ()), (7, ((0,),), (), ()),
+    (True, ((0,),), (), ()), ("4", ((0,),), (), ()), (None, ((0,),), (), ()), (4, (), (), ()), (4, [(0,)], (), ()),
+    (4, ((3,),), (), ()), (4, ((),) * 25, (), ()), (4, None, (), ()), (4, ((0,),), ((),) * 6, ()), (4, ((0,),), [], ()),
+    (4, ((0,),), ((3,),), ()), (4, ((0,),), None, ()), (4, ((0,),), ((0, 1),), ()), (4, ((0,),), (), (1,)),
+    (4, ((0,),), (), (0,) * 41), (4, ((0,),), (), [0]), (4, ((0,),), (), (False,)), (4, ((0,),), ((),), (0, -1)),
+    (4, ((0,),), ((),), (0, 2)), (4, ((0,),), (), None), (4, ((0,),), ((),), "01"), (HUGE, ((0,),), (), ()), "4",
+    (((0,),), 4, (), ()), ((4,), ((0,),), (), ()), (4, ((0,),), (), ((0,),)),
+]
+
 BAD_SHEETS = ODD_VALUES + [
     0, ((),), (((0, 0), (0, 1)), ()), [((0, 0), (0, 1))], ([(0, 0), (0, 1)],), (([0, 0], [0, 1]),), ((0, 0), (0, 1)),
     (((0, 0),),), (((0, 0), (0, 2)),), (((0, 1), (0, 2)),), (((1, 0), (1, 1)),), (((0, 0), (0, 1), (2, 0), (2, 1)),),
@@ -84,6 +115,111 @@ def ring(row, lead):
 def some_lead(dice, bells, most):
     changes = all_changes(bells)
     return tuple(dice.choice(changes) for _ in range(dice.randint(1, most)))
+
+
+def some_ways(dice, bells):
+    ways = [some_lead(dice, bells, 5) for _ in range(dice.randint(1, 6))]
+    if len(ways) > 1 and dice.random() < 0.2:
+        ways[1] = ways[0]
+    return tuple(ways)
+
+
+def group_by_hand(bells, ways):
+    rows = {tuple(range(bells))}
+    while True:
+        more = {ring(row, way)[-1] for row in rows for way in ways} | rows
+        if more == rows:
+            return tuple(sorted(rows))
+        rows = more
+
+
+def all_leads(bells, many):
+    return list(itertools.product(all_changes(bells), repeat=many))
+
+
+def path_by_hand(bells, lead, bell):
+    return (bell,) + tuple(row.index(bell) for row in ring(tuple(range(bells)), lead))
+
+
+def held_by_hand(row, lead):
+    return [row] + ring(row, lead)[:-1]
+
+
+def heads_by_hand(bells, ways, course):
+    heads = [tuple(range(bells))]
+    for way in course:
+        heads.append(ring(heads[-1], ways[way])[-1])
+    return heads
+
+
+def held_in_course(bells, ways, course):
+    return [held_by_hand(head, ways[way]) for head, way in zip(heads_by_hand(bells, ways, course), course)]
+
+
+def meets_by_hand(bells, ways, course):
+    held = [set(rows) for rows in held_in_course(bells, ways, course)]
+    return [(place, later) for place, later in itertools.combinations(range(len(held)), 2)
+            if not held[place].isdisjoint(held[later])]
+
+
+def spoilt_by_hand(bells, ways):
+    held = [held_by_hand(tuple(range(bells)), lead) for lead in ways]
+    return [way for way, rows in enumerate(held) if len(set(rows)) < len(rows)]
+
+
+def ways_by_hand(lead, calls):
+    return tuple(lead[:-1] + (last,) for last in lead[-1:] + calls)
+
+
+def some_method(dice, bells, most):
+    lead = some_lead(dice, bells, most)
+    return bells, lead, tuple(dice.choice(all_changes(bells)) for _ in range(dice.randint(0, 5)))
+
+
+def some_tour(dice, bells, most, leads):
+    method = some_method(dice, bells, most)
+    return method + (tuple(dice.randint(0, len(method[2])) for _ in range(leads)),)
+
+
+def rows_by_hand(tour):
+    """The rows of a tour, rounds ahead of all."""
+    bells, lead, calls, composition = tour
+    ways = ways_by_hand(lead, calls)
+    rows = [tuple(range(bells))]
+    for way in composition:
+        rows += ring(rows[-1], ways[way])
+    return rows
+
+
+def fault_by_hand(rows):
+    """What makes rows, rounds ahead of all, untrue, found pair by pair."""
+    for later in range(len(rows)):
+        for earlier in range(later):
+            if rows[earlier] == rows[later] and (earlier, later) != (0, len(rows) - 1):
+                return later - 1, earlier - 1
+    return None
+
+
+def renaming_by_hand(bells, lead, slips, renaming=None):
+    """Who does which work behind slips, told by name: each bell keeps a work, until it takes another one's."""
+    work_of = {bell: work for work, bell in enumerate(renaming or range(bells))}
+    rows = [tuple(range(bells))] + ring(tuple(range(bells)), lead)
+    for index, place in slips:
+        work, mate = rows[index][place:place + 2]
+        work_of = {bell: {work: mate, mate: work}.get(old, old) for bell, old in work_of.items()}
+    return tuple(sorted(work_of, key=work_of.get))
+
+
+def some_slips(dice, bells, lead, most):
+    return tuple(sorted(((dice.randrange(len(lead)), dice.randrange(bells - 1)) for _ in range(dice.randint(0, most))),
+                        key=lambda slip: slip[0]))
+
+
+def all_slips(bells, lead, many):
+    """All slips of a lead that are so many."""
+    slips = [(index, place) for index in range(len(lead)) for place in range(bells - 1)]
+    return [found for found in itertools.product(slips, repeat=many)
+            if all(slip[0] <= later[0] for slip, later in zip(found, found[1:]))]
 
 
 def some_table(dice, count, ways):

@@ -6,13 +6,10 @@ import unittest
 
 from rungonce.compositions import comes_round, rung_by, twice_rung, ways_by
 from rungonce.errors import InvalidBells, InvalidCalls, InvalidComposition, InvalidLead
-from samples import ODD_BELLS, ODD_VALUES, all_changes, check_errors, check_new_list, ring, some_lead
+from samples import (BAD_CALLS, BAD_COMPOSITIONS, BAD_LEADS, ODD_BELLS, all_changes, check_errors, check_new_list, ring,
+                     some_lead)
 
 L = ((0,), (1,))
-BAD_LEADS = ODD_VALUES + [(), 0, ((),) * 25, [(0,)], ((0,), [1]), ((3,),), ((True,),)]
-# The odd values have () * 1000 calls, and no calls at all are fine.
-BAD_CALLS = ODD_VALUES + [0, ((),) * 6, [()], ((0,), [1]), (0,), ((3,),), ((False,),), ((0, 1),), ("0",), (((0,),),)]
-BAD_COMPOSITIONS = [value for value in ODD_VALUES] + [0, (0,) * 41, (3,), (0, -1), [0, 1], (0, False), "01", ((0,),)]
 
 
 def first_repeat(bells, rows):

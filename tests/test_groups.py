@@ -7,29 +7,11 @@ import unittest
 from rungonce.choices import is_table
 from rungonce.errors import InvalidBells, InvalidRow, InvalidWays
 from rungonce.groups import are_ways, group_of, number_of, table_of, ways_to
-from samples import ODD_BELLS, ODD_VALUES, all_rows, check_errors, ring, some_lead
+from samples import BAD_WAYS, ODD_BELLS, ODD_VALUES, all_rows, check_errors, group_by_hand, ring, some_ways
 
 W = (((0,),), ((1,),))
 ALL = (((0,),), ((1,),), ((2,),), ((3,),), ((4,),))
-BAD_WAYS = ODD_VALUES + [(), 0, (((0,),),) * 7, [((0,),)], (((0,),), ()), (((3,),),), (((),), ((0, 1),)), ((0,),),
-                         ([(0,)],), (((0,),), None), (((True,),),), ((((0,),),),), (((),) * 25,)]
 BAD_ROWS = ODD_VALUES + [(0,), (0, 1), (0, 1, 2), (0, 1, 2, 3, 4), [0, 1, 2, 3], (0, 1, 2, 2), (0, True, 2, 3), 0]
-
-
-def some_ways(dice, bells):
-    ways = [some_lead(dice, bells, 5) for _ in range(dice.randint(1, 6))]
-    if len(ways) > 1 and dice.random() < 0.2:
-        ways[1] = ways[0]
-    return tuple(ways)
-
-
-def group_by_hand(bells, ways):
-    rows = {tuple(range(bells))}
-    while True:
-        more = {ring(row, way)[-1] for row in rows for way in ways} | rows
-        if more == rows:
-            return tuple(sorted(rows))
-        rows = more
 
 
 def many_ways():

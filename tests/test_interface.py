@@ -4,6 +4,8 @@ import importlib
 import inspect
 import unittest
 
+from rungonce.conductors import Conductor
+
 INTERFACE = {
     "rows": ["is_row(value)", "is_change(bells, value)", "changes_of(bells)", "behind_change(row, change)",
              "followed_by(row, other)", "row_undone(row)"],
@@ -50,7 +52,33 @@ INTERFACE = {
     "stretches": ["stretches_of(table, lot, one, other)", "odd_stretch(table, lot, one, other)",
                   "whole_rings(table, lot, one, other)", "forced_ways(table, lot, one, other)",
                   "is_rest_served(table, lot, one, other)", "unlike_stretches(table, lot, one, other)"],
+    "mostserved": ["most_served(table, lot)", "price_paper(table, lot)", "is_price_paper(table, lot, value)",
+                   "too_few(table, lot)"],
+    "lotblocks": ["lot_block_counts(table, lot, one, other)", "in_one_block(table, lot, one, other)"],
+    "leadcourses": ["is_course(bells, ways, value)", "heads_of(bells, ways, course)", "rows_held(bells, ways, course)",
+                    "spoilt_ways(bells, ways)", "places_that_meet(bells, ways, course)",
+                    "is_clean(bells, ways, course)"],
+    "leadmeetings": ["meetings_of(bells, ways, one, two)", "alike_in_meetings(bells, ways, number, others)",
+                     "parting_of(bells, ways, number, others)"],
+    "leadstandings": ["may_stand_for(bells, ways, one, two)", "worsening_of(bells, ways, one, two)"],
+    "leadbeginnings": ["common_beginning(bells, ways)", "begun_elsewhere(bells, ways, number)",
+                       "mirrored_ways(bells, ways)", "begun_by(bells, ways, others)"],
+    "paths": ["path_of(bells, lead, bell)", "are_paths(bells, many, value)", "count_leads(bells, many, paths)",
+              "lead_with(bells, many, paths)"],
+    "tellers": ["is_told(bells, lead, lot)", "second_lead(bells, lead, lot)", "least_tellers(bells, lead)",
+                "parting_lots(bells, leads)"],
+    "slips": ["are_slips(bells, lead, value)", "rows_heard(bells, lead, slips)", "renaming_by(bells, lead, slips)",
+              "fewest_slips(bells, lead, renaming)", "count_fewest(bells, lead, renaming)",
+              "single_slips(bells, lead, renaming)"],
+    "hearing": ["slips_heard(bells, lead, rows)", "first_unheard(bells, lead, rows)", "renamings_for(row, heard)"],
+    "putright": ["notes_for(bells, lead, renaming)", "right_by(bells, lead, renaming)"],
+    "tours": ["is_tour(value)", "tour_heads(tour)", "tour_path(tour, bell)", "tour_crossings(tour, bell, other_bell)"],
+    "homes": ["least_home(tour)", "true_home(tour, many)", "open_ways(tour, many)"],
+    "callings": ["told_by_bell(tour, bell)", "is_plainly_called(tour, bell)",
+                 "led_by_bell(bells, lead, calls, bell, pairs)"],
 }
+CONDUCTOR = ["__init__(self, bells, lead, calls)", "call(self, way)", "undo(self)", "redo(self)",
+             "attempt(self, action)", "__len__(self)", "__bool__(self)", "__eq__(self, other)"]
 
 
 class Interface(unittest.TestCase):
@@ -63,6 +91,15 @@ class Interface(unittest.TestCase):
                 self.assertEqual(function.__module__, module.__name__)
                 self.assertEqual(function.__name__ + str(inspect.signature(function)), line)
                 self.assertTrue(function.__doc__, line)
+
+    def test_the_conductor_has_all_that_is_listed_itself(self):
+        self.assertEqual(Conductor.__module__, "rungonce.conductors")
+        self.assertEqual(Conductor.__bases__, (object,))
+        for line in CONDUCTOR:
+            method = vars(Conductor)[line.partition("(")[0]]
+            self.assertEqual(method.__name__ + str(inspect.signature(method)), line)
+        for name in ("tour", "head", "fault"):
+            self.assertIsInstance(vars(Conductor)[name], property)
 
 
 if __name__ == "__main__":

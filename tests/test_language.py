@@ -10,15 +10,16 @@ FILES = sorted(PACKAGE.glob("*.py"))
 
 # All that the package needs; the rules allow somewhat more.
 STATEMENTS = (ast.FunctionDef, ast.ClassDef, ast.Return, ast.Assign, ast.AugAssign, ast.For, ast.While, ast.If,
-              ast.Raise, ast.Expr, ast.Continue, ast.Break, ast.Pass, ast.ImportFrom, ast.Delete)
+              ast.Raise, ast.Expr, ast.Continue, ast.Break, ast.Pass, ast.ImportFrom, ast.Delete, ast.Try)
 BARRED = (ast.Lambda, ast.GeneratorExp, ast.Yield, ast.YieldFrom, ast.Await, ast.Set, ast.SetComp, ast.NamedExpr,
           ast.Global, ast.Nonlocal, ast.AnnAssign, ast.Starred)
 BUILTINS = """len range enumerate zip min max sum abs sorted reversed int str bool list tuple dict set isinstance ord
-repr any all divmod super ValueError""".split()
+repr any all divmod super property ValueError""".split()
 METHODS = """append clear copy count endswith extend find get index insert isalnum isalpha isdigit islower isspace
 isupper items join keys ljust lower lstrip partition pop remove replace reverse rfind rjust rpartition rsplit rstrip
 setdefault split splitlines startswith strip update upper values zfill bit_length __init__""".split()
 LIBRARY = {"math": ("gcd", "lcm", "isqrt", "comb", "perm", "factorial"), "heapq": ("heappush", "heappop", "heapify")}
+SPECIAL = ["__init__", "__eq__", "__len__", "__bool__"]
 BARRED_NAMES = """register mro elements open input law version_info with_traceback add_note typing enum type
 dataclass overload contextmanager abstractmethod namedtuple""".split()
 
@@ -74,8 +75,7 @@ class Language(unittest.TestCase):
                 if isinstance(node, ast.FunctionDef):
                     self.assertEqual([inner.name for inner in ast.walk(node)
                                       if isinstance(inner, ast.FunctionDef)], [node.name])
-                    defaults = node.decorator_list + node.args.defaults
-                    self.assertEqual(defaults, [], (path, node.name))
+                    self.assertEqual(node.args.defaults, [], (path, node.name))
                 if isinstance(node, (ast.Div, ast.Pow)):
                     self.fail((path, "a division or a power"))
                 if isinstance(node, ast.Constant):
@@ -128,8 +128,8 @@ class Language(unittest.TestCase):
             taken += [node.name for node in tree.body if isinstance(node, ast.ClassDef)]
             for name in bound_names(tree):
                 self.assertNotIn(name, BARRED_NAMES, path)
-                self.assertTrue(name == "__init__" or not hasattr(builtins, name), (path, name))
-                self.assertFalse(name.startswith("__") and name != "__init__", (path, name))
+                self.assertTrue(name in SPECIAL or not hasattr(builtins, name), (path, name))
+                self.assertFalse(name.startswith("__") and name not in SPECIAL, (path, name))
             variables = [node.arg for node in ast.walk(tree) if isinstance(node, ast.arg)]
             variables += [node.id for node in ast.walk(tree)
                           if isinstance(node, ast.Name) and isinstance(node.ctx, ast.Store)]
@@ -142,6 +142,35 @@ class Language(unittest.TestCase):
                     self.assertIn(node.id, BUILTINS, path)
                 if isinstance(node, ast.Call) and isinstance(node.func, ast.Attribute):
                     self.assertIn(node.func.attr, METHODS, path)
+
+    def test_decorators(self):
+        for path, tree in self.each_tree():
+            methods = [node for owner in tree.body if isinstance(owner, ast.ClassDef) for node in owner.body]
+            for node in ast.walk(tree):
+                if isinstance(node, (ast.FunctionDef, ast.ClassDef)) and node.decorator_list:
+                    self.assertEqual([ast.unparse(name) for name in node.decorator_list], ["property"], path)
+                    self.assertIn(node, methods)
+                    changed = [inner for inner in ast.walk(node) if isinstance(inner, ast.Attribute)
+                               and isinstance(inner.ctx, ast.Store)]
+                    self.assertEqual(changed, [], (path, node.name))
+
+    def test_what_is_tried_is_put_back_plainly(self):
+        # There are no handlers, and what is done at last is to put attributes back, where a name is None or is not.
+        for path, tree in self.each_tree():
+            for node in ast.walk(tree):
+                if isinstance(node, ast.Try):
+                    self.assertEqual((node.handlers, node.orelse), ([], []), path)
+                    for last in node.finalbody:
+                        self.assertRegex(ast.unparse(last.test), r"^[a-z]+ is (not )?None$")
+                        for statement in last.body:
+                            self.assertRegex(ast.unparse(statement), r"^[a-z_., ]+ = [a-z_., ()]+$")
+
+    def test_lists_are_not_sorted_in_place(self):
+        # A class of the package compares, and has a length.
+        for path, tree in self.each_tree():
+            for node in ast.walk(tree):
+                if isinstance(node, ast.Attribute):
+                    self.assertNotEqual(node.attr, "sort", path)
 
     def test_sets_are_only_counted(self):
         for path, tree in self.each_tree():

@@ -6,11 +6,9 @@ import unittest
 from rungonce.errors import InvalidBells, InvalidLead, InvalidRow
 from rungonce.leads import acting_row, is_lead, led_to, rows_rung
 from rungonce.rows import followed_by
-from samples import ODD_BELLS, ODD_VALUES, all_changes, all_rows, check_errors, check_new_list, ring, some_lead
+from samples import (BAD_LEADS, ODD_BELLS, ODD_VALUES, all_changes, all_rows, check_errors, check_new_list, ring,
+                     some_lead)
 
-# ((),) * 1000 is among the odd values: a lead in all but its length.
-BAD_LEADS = ODD_VALUES + [(), 0, ((),) * 25, ((0,), (3,)), ((0, 1),), [(0,)], ((0,), [1]), ((0,), None), ((True,),),
-                          ((0,), (False,)), (0,), ((0,), 1), (((0,),),), "x", ("0",), ((-1,),), ((2, 0),)]
 BAD_ROWS = [(0,), (0, 0), [0, 1, 2, 3], (0, 1, True, 3), None, "0123", 3, (1, 2, 3, 4)]
 
 

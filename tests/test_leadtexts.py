@@ -7,10 +7,9 @@ import unittest
 
 from rungonce.errors import InvalidBells, InvalidLead, InvalidText
 from rungonce.leadtexts import lead_text, read_lead, short_text
-from samples import ODD_BELLS, ODD_VALUES, all_changes, check_errors, some_lead
+from samples import BAD_LEADS, ODD_BELLS, ODD_VALUES, all_changes, check_errors, some_lead
 
 L = ((0, 2), (1,), (0, 2), (2,))
-BAD_LEADS = ODD_VALUES + [(), 0, ((),) * 25, [(0,)], ((0,), [1]), ((3,),), ((True,),), "x"]
 
 
 def words_of(bells):

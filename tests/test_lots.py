@@ -6,12 +6,11 @@ import unittest
 from rungonce.errors import InvalidChoice, InvalidLot, InvalidTable, NotOne
 from rungonce.groups import table_of
 from rungonce.lots import blocks_of_lot, does_serve, is_lot
-from samples import (BAD_TABLES, NO_LOTS, ODD_VALUES, all_lots_by_length, check_errors, check_new_list, outcome,
+from samples import (BAD_NUMBER_LOTS, BAD_TABLES, ODD_VALUES, all_lots_by_length, check_errors, check_new_list, outcome,
                      some_tables, written)
 
 T = table_of(3, (((0,),), ((1,),)))
 LOT = (0, 2, 3, 5)
-BAD_NUMBERS = NO_LOTS + [(6,), (0, 6), (0, 1, 2, 3, 4, 5, 6)]
 BAD_LOT_CHOICES = ODD_VALUES + [(), 0, (0, 0, 0), (0,) * 5, (0,) * 6, [0] * 4, (0, 0, 0, 2), (0, 0, 0, -1),
                                 (0, 0, 0, False), (True,) * 4, (0, 0, 0, None), "0000", ((0,), (0,), (0,), (0,))]
 
@@ -52,11 +51,12 @@ class Lots(unittest.TestCase):
         self.assertIs(does_serve(((0, 1), (1, 0)), (0, 1), (0, 1)), False)
 
     def test_any_value_may_be_asked_for(self):
-        for value in BAD_NUMBERS:
+        for value in BAD_NUMBER_LOTS:
             self.assertIs(is_lot(T, value), False)
 
     def test_errors(self):
-        tables, lots, choices = (BAD_TABLES, InvalidTable), (BAD_NUMBERS, InvalidLot), (BAD_LOT_CHOICES, InvalidChoice)
+        tables, lots = (BAD_TABLES, InvalidTable), (BAD_NUMBER_LOTS, InvalidLot)
+        choices = (BAD_LOT_CHOICES, InvalidChoice)
         check_errors(self, is_lot, (T, LOT), [tables, None])
         for function in (does_serve, blocks_of_lot):
             check_errors(self, function, (T, LOT, (0, 0, 0, 0)), [tables, lots, choices])

@@ -5,10 +5,9 @@ import unittest
 
 from rungonce.errors import InvalidBells, InvalidLead, InvalidRow
 from rungonce.rowrings import leads_home, rings_of
-from samples import ODD_BELLS, ODD_VALUES, all_rows, check_errors, check_new_list, ring, some_lead
+from samples import BAD_LEADS, ODD_BELLS, ODD_VALUES, all_rows, check_errors, check_new_list, ring, some_lead
 
 BAD_ROWS = ODD_VALUES + [(0,), (0, 0), [0, 1], (0, 1, 3), (0, True, 2), (0, 1, 2, 3, 4, 5, 6), 0, (), "012"]
-BAD_LEADS = ODD_VALUES + [(), 0, ((),) * 25, [(0,)], ((0,), [1]), ((3,),), ((True,),)]
 
 
 class RowRings(unittest.TestCase):

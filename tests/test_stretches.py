@@ -8,11 +8,10 @@ from rungonce.groups import table_of
 from rungonce.lots import does_serve
 from rungonce.stretches import (forced_ways, is_rest_served, odd_stretch, stretches_of, unlike_stretches,
                                 whole_rings)
-from samples import (BAD_TABLES, NO_LOTS, ODD_INTEGERS, all_lots_by_length, check_errors, check_new_list, outcome,
-                     some_tables)
+from samples import (BAD_NUMBER_LOTS, BAD_TABLES, ODD_INTEGERS, all_lots_by_length, check_errors, check_new_list,
+                     outcome, some_tables)
 
 T = table_of(3, (((0,),), ((1,),)))
-BAD_NUMBERS = NO_LOTS + [(6,), (0, 6), (0, 1, 2, 3, 4, 5, 6)]
 FUNCTIONS = (stretches_of, odd_stretch, whole_rings, forced_ways, is_rest_served, unlike_stretches)
 
 
@@ -195,7 +194,7 @@ class Stretches(unittest.TestCase):
         self.assertEqual(len(stretches_of(turn, full[::2], 0, 1)), 360)
 
     def test_errors(self):
-        tables, lots = (BAD_TABLES, InvalidTable), (BAD_NUMBERS, InvalidLot)
+        tables, lots = (BAD_TABLES, InvalidTable), (BAD_NUMBER_LOTS, InvalidLot)
         ways = (ODD_INTEGERS + [2, 6], InvalidPair)
         for function in FUNCTIONS:
             check_errors(self, function, (T, (0, 2), 0, 1), [tables, lots, ways, ways])
