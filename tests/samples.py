@@ -3,6 +3,7 @@
 import itertools
 import random
 
+from rungonce.conductors import Conductor
 from rungonce.errors import InvalidText, OnceError, TooMany
 
 
@@ -20,9 +21,10 @@ ODD_VALUES = [
     True, False, None, -1, -HUGE, HUGE, "", "0", "x", "(0, 1)", "a" * 4000, [], [0], [0, 1], [[0]], [(0, 1)],
     (True,), (False, True), (0, True), ("0", "1"), (None,), (None, None), ([0, 1],), ((0, 1), [1, 0]), (HUGE,),
     (-1, 0), (0, -1), nested(100), [nested(99)], (0,) * 1000, ((),) * 1000, OnceError(), TooMany(8), InvalidText(0),
+    Conductor(4, ((0,),), ()), (Conductor(4, ((0,),), ()),), [Conductor(2, ((),), ())],
 ]
 
-ODD_INTEGERS = [True, False, None, -1, -HUGE, HUGE, "", "0", [], [0], (), (0,), OnceError()]
+ODD_INTEGERS = [True, False, None, -1, -HUGE, HUGE, "", "0", [], [0], (), (0,), OnceError(), Conductor(2, ((),), ())]
 
 ODD_BELLS = ODD_INTEGERS + [0, 1, 7, "3", (3,), [3]]
 

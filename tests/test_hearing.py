@@ -14,7 +14,8 @@ L = ((0,), (1,))
 ROW = (0, 1, 2, 3)
 # For four bells and two changes.
 BAD_ROWS_HEARD = ODD_VALUES + [(), 0, (ROW,), (ROW,) * 3, [ROW, ROW], (ROW, [0, 1, 2, 3]), (ROW, (0, 1, 2)),
-                               (ROW, None), ((0, 1, 2), (0, 1, 2)), (ROW, (0, 1, 2, 2)), (ROW, (0, True, 2, 3)), ROW, "01",
+                               (ROW, None), ((0, 1, 2), (0, 1, 2)), (ROW, (0, 1, 2, 2)), (ROW, (0, True, 2, 3)), "01",
+                               ROW,
                                ((0, 1, 2, 3, 4), ROW), (ROW, (1, 2, 3, 4)), ((), ()), (ROW, "0123")]
 BAD_HEARD = ODD_VALUES + [(), 0, (0, 1, 2), (0, 1, 2, 3, None), [0, 1, 2, 3], (0, 0, None, None), (None, 2, 1, 2),
                           (0, 1, 2, 4), (None, None, None, -1), (True, None, None, None), (None, None, False, None),
